@@ -23,16 +23,22 @@ func HasSlot(m api.Mem, a int) bool { return 0 <= a && a < len(m.Slots) }
 // HasChain tells whether m has a chain b.
 func HasChain(m api.Mem, b int) bool { return 0 <= b && b < len(m.Heads) }
 
+// Within tells whether n is from least to most.
+func Within(n, least, most int) bool { return least <= n && n <= most }
+
 // Copy answers memory like m that is the caller's own: no list of it shares anything with a list of m.
 func Copy(m api.Mem) api.Mem {
-	m.Slots = listOf(m.Slots)
-	m.Heads = listOf(m.Heads)
-	m.Free = listOf(m.Free)
-	m.Locks = listOf(m.Locks)
+	m.Slots = List(m.Slots)
+	m.Heads = List(m.Heads)
+	m.Free = List(m.Free)
+	m.Locks = List(m.Locks)
 	return m
 }
 
-// listOf stands in for slices.Clone, whose copy of an empty list still points at the list that it was made of.
-func listOf[T any](l []T) []T {
+// List answers a list like l that shares nothing with it. It stands in for slices.Clone, whose copy of an empty list still points at the list that it was made of.
+func List[T any](l []T) []T {
+	if l == nil {
+		return nil
+	}
 	return append(make([]T, 0, len(l)), l...)
 }

@@ -66,3 +66,39 @@ func TestCopyIsAlikeAndItsOwn(t *testing.T) {
 		t.Errorf("a copy that is changed changes what it was made of: %v, %v", m, whole)
 	}
 }
+
+func TestWithin(t *testing.T) {
+	for _, c := range []struct {
+		n, least, most int
+		want           bool
+	}{
+		{2, 2, 4, true}, {3, 2, 4, true}, {4, 2, 4, true}, {1, 2, 4, false}, {5, 2, 4, false},
+		{0, 0, 0, true}, {0, 0, -1, false}, {-1, 0, -1, false},
+		{math.MinInt, -4, 4, false}, {math.MaxInt, -4, 4, false},
+		{math.MinInt, math.MinInt, math.MaxInt, true}, {math.MaxInt, math.MinInt, math.MaxInt, true},
+	} {
+		if got := Within(c.n, c.least, c.most); got != c.want {
+			t.Errorf("Within(%d, %d, %d): %v, want %v", c.n, c.least, c.most, got, c.want)
+		}
+	}
+}
+
+func TestListIsAlikeAndItsOwn(t *testing.T) {
+	room := []int{1, 2, 3, 4}
+	for n := range len(room) + 1 {
+		l := List(room[:n])
+		if !slices.Equal(l, room[:n]) {
+			t.Errorf("List(%v): %v", room[:n], l)
+		}
+		for i := range l {
+			l[i] = 9
+		}
+		_ = append(l, 9)
+		if !slices.Equal(room, []int{1, 2, 3, 4}) {
+			t.Errorf("a list that is changed changes what it was made of: %v", room)
+		}
+	}
+	if List([]int(nil)) != nil || List([]int{}) == nil {
+		t.Errorf("List: nil and empty lists are not told apart any more")
+	}
+}
