@@ -1,4 +1,4 @@
-// Package base: what the layers share beneath their calls: the numbers that stand behind slots, and memory of one's own.
+// Package base: what the layers share beneath their calls: the numbers that stand behind slots, memory of one's own, and what is done to its slots.
 package base
 
 import "turnstile/api"
