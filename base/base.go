@@ -1,4 +1,4 @@
-// Package base: what the layers share beneath their calls: the numbers that stand behind slots, memory of one's own, and what is done to its slots.
+// Package base: what the layers share beneath their calls: the numbers that stand behind slots, memory of one's own, what is done to its slots and chains, and what frames go on by.
 package base
 
 import "turnstile/api"

@@ -6,13 +6,14 @@ import (
 	"turnstile/api"
 )
 
-// NoSlot is the Slot of a frame that has none in its hands.
-const NoSlot = -1
+// MaxUntil is the greatest time until which a slot can be taken.
+const MaxUntil = 2 * api.MaxTime
 
 // Take takes a slot for k, and tells which one, and whether there was one. It leaves Next alone: who still stands at the slot goes on from there.
 func Take(m *api.Mem, k api.Key, until int) (int, bool) {
 	last := len(m.Free) - 1
-	if last < 0 {
+	// Memory that is not checked may have in Free what is no slot.
+	if last < 0 || !HasSlot(*m, m.Free[last]) {
 		return 0, false
 	}
 	a := m.Free[last]

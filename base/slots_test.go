@@ -1,6 +1,7 @@
 package base
 
 import (
+	"math"
 	"reflect"
 	"slices"
 	"testing"
@@ -40,6 +41,16 @@ func TestTake(t *testing.T) {
 	}
 	if a, is := Take(&m, k, 13); a != 0 || is || !reflect.DeepEqual(m, want) {
 		t.Errorf("Take of none: %d, %v, %+v, want 0, false, %+v", a, is, m, want)
+	}
+}
+
+func TestTakeOfWhatIsNoSlot(t *testing.T) {
+	for _, n := range []int{-1, 5, math.MinInt, math.MaxInt} {
+		m, want := sample(), sample()
+		m.Free, want.Free = []int{3, n}, []int{3, n}
+		if a, is := Take(&m, api.Key{}, 1); a != 0 || is || !reflect.DeepEqual(m, want) {
+			t.Errorf("Take of %d: %d, %v, %+v, want 0, false, %+v", n, a, is, m, want)
+		}
 	}
 }
 
