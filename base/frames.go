@@ -5,6 +5,9 @@ import "turnstile/api"
 // NoSlot is the Slot of a frame that has none in its hands.
 const NoSlot = -1
 
+// AtBegin is the Prev of a frame ahead of whose Cur there is no slot, but the chain's begin.
+const AtBegin = 0
+
 // To answers f with that place as its next one.
 func To(f api.Frame, at int) api.Frame {
 	f.At = at
@@ -25,4 +28,20 @@ func LetGo(m *api.Mem, f api.Frame) (api.Frame, bool) {
 	Put(m, f.Slot)
 	f.Slot = NoSlot
 	return f, true
+}
+
+// CutOut cuts the slot at which the call stands out of chain b, Prev being ahead of it, and tells which one, and whether it could.
+func CutOut(m *api.Mem, b int, f api.Frame) (int, bool) {
+	a, is := StandsAt(m, f)
+	if !is || !HasChain(*m, b) || !canBeAhead(m, f.Prev) {
+		return 0, false
+	}
+	Cut(m, b, f.Prev, a)
+	return a, true
+}
+
+// canBeAhead asks for the slot itself, for a frame that is not checked may have a Prev that is none.
+func canBeAhead(m *api.Mem, prev int) bool {
+	a, is := SlotOf(prev)
+	return prev == AtBegin || is && HasSlot(*m, a)
 }

@@ -58,3 +58,34 @@ func TestLetGo(t *testing.T) {
 		}
 	}
 }
+
+func TestCutOut(t *testing.T) {
+	for _, x := range []struct{ b, prev, cur int }{{0, 0, 1}, {0, 1, 2}, {1, 0, 3}, {1, 0, 1}, {0, 5, 2}, {0, 2, 2}} {
+		m, want, f := sample(), sample(), midst()
+		f.Prev, f.Cur = x.prev, x.cur
+		Cut(&want, x.b, x.prev, x.cur-1)
+		if a, did := CutOut(&m, x.b, f); a != x.cur-1 || !did || !reflect.DeepEqual(m, want) {
+			t.Errorf("%+v: %d, %v, %+v, want %+v", x, a, did, m, want)
+		}
+	}
+}
+
+func TestCutOutOfWhatThereIsNot(t *testing.T) {
+	out := []int{math.MinInt, math.MinInt + 1, -3, 7, math.MaxInt - 1, math.MaxInt}
+	none := func(b, prev, cur int) {
+		m, f := sample(), midst()
+		f.Prev, f.Cur = prev, cur
+		if a, did := CutOut(&m, b, f); a != 0 || did || !reflect.DeepEqual(m, sample()) {
+			t.Errorf("chain %d, Prev %d, Cur %d: %d, %v, %+v", b, prev, cur, a, did, m)
+		}
+	}
+	for _, n := range append(out, -1, 2) {
+		none(n, 0, 1)
+		none(n, 1, 2)
+	}
+	for _, n := range append(out, -2, -1, 6) {
+		none(0, n, 1)
+		none(0, 0, n)
+	}
+	none(0, 0, 0)
+}
