@@ -20,6 +20,25 @@ func StandsAt(m *api.Mem, f api.Frame) (int, bool) {
 	return a, is && HasSlot(*m, a)
 }
 
+// FromBegin answers f standing at the begin of chain b, and tells whether there is such a chain.
+func FromBegin(m *api.Mem, b int, f api.Frame) (api.Frame, bool) {
+	if !HasChain(*m, b) {
+		return f, false
+	}
+	f.Prev, f.Cur = AtBegin, m.Heads[b]
+	return f, true
+}
+
+// Onward answers f standing behind the slot at which it stood, that one being ahead now, and tells whether it stood at one.
+func Onward(m *api.Mem, f api.Frame) (api.Frame, bool) {
+	a, is := StandsAt(m, f)
+	if !is {
+		return f, false
+	}
+	f.Prev, f.Cur = f.Cur, m.Slots[a].Next
+	return f, true
+}
+
 // LetGo puts the slot that f has in its hands, and tells whether it had one.
 func LetGo(m *api.Mem, f api.Frame) (api.Frame, bool) {
 	if !HasSlot(*m, f.Slot) {

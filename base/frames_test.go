@@ -39,6 +39,41 @@ func TestStandsAt(t *testing.T) {
 	}
 }
 
+func TestFromBegin(t *testing.T) {
+	for b, begin := range sample().Heads {
+		m, f, want := sample(), midst(), midst()
+		want.Prev, want.Cur = 0, begin
+		if got, did := FromBegin(&m, b, f); !did || !reflect.DeepEqual(got, want) || !reflect.DeepEqual(m, sample()) {
+			t.Errorf("chain %d: %v, %+v, want %+v; %+v", b, did, got, want, m)
+		}
+	}
+	for _, b := range []int{-1, len(sample().Heads), math.MinInt, math.MaxInt} {
+		m := sample()
+		if got, did := FromBegin(&m, b, midst()); did || !reflect.DeepEqual(got, midst()) || !reflect.DeepEqual(m, sample()) {
+			t.Errorf("chain %d: %v, %+v, %+v", b, did, got, m)
+		}
+	}
+}
+
+func TestOnward(t *testing.T) {
+	for a, s := range sample().Slots {
+		m, f := sample(), midst()
+		f.Cur = a + 1
+		want := f
+		want.Prev, want.Cur = a+1, s.Next
+		if got, did := Onward(&m, f); !did || !reflect.DeepEqual(got, want) || !reflect.DeepEqual(m, sample()) {
+			t.Errorf("from slot %d: %v, %+v, want %+v; %+v", a, did, got, want, m)
+		}
+	}
+	for _, n := range []int{0, -1, -2, len(sample().Slots) + 1, math.MinInt, math.MaxInt} {
+		m, f := sample(), midst()
+		f.Cur = n
+		if got, did := Onward(&m, f); did || !reflect.DeepEqual(got, f) || !reflect.DeepEqual(m, sample()) {
+			t.Errorf("from %d, which is no slot: %v, %+v, %+v", n, did, got, m)
+		}
+	}
+}
+
 func TestLetGo(t *testing.T) {
 	for a := range sample().Slots {
 		m, n, f := sample(), sample(), midst()
